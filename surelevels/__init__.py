@@ -1,0 +1,1 @@
+"""Surelevels: levels known by gauges and by alarms that did not ring."""
