@@ -2,7 +2,7 @@
 
 from surelevels.errors import BadFact, BadFrame, BadLevel, BadPlace
 from surelevels.exacts import is_number, plain
-from surelevels.kinds import is_list, is_whole, is_word
+from surelevels.kinds import is_among, is_list, is_whole, is_word
 from surelevels.texts import rows_of, text_of
 
 MOST_LEVELS = 3
@@ -96,11 +96,6 @@ def copied(row):
 def are_numbers(things):
     """Whether all of some things are numbers."""
     return all([is_number(thing) for thing in things])
-
-
-def is_among(thing, words):
-    """Whether a thing, which may be any object, is one of some words."""
-    return isinstance(thing, str) and thing in words
 
 
 def checked_frame(things):

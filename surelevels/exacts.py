@@ -118,6 +118,13 @@ def plain(number):
     return Exact(over, under)
 
 
+def quotient(one, other):
+    """The quotient of two numbers, the second of them not 0, as a result."""
+    over, under = parts(one)
+    below, above = parts(other)
+    return plain(Exact(over * above, under * below))
+
+
 def number_text(number):
     """The text of an integer or a fraction."""
     over, under = parts(number)

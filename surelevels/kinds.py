@@ -18,3 +18,8 @@ def is_word(thing):
     if not isinstance(thing, str) or len(thing) > LONGEST_WORD:
         return False
     return thing.isascii() and thing.isalpha() and thing.islower()
+
+
+def is_among(thing, words):
+    """Whether a thing, which may be any object, is one of some words."""
+    return isinstance(thing, str) and thing in words

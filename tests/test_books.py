@@ -5,7 +5,7 @@ import unittest
 from surelevels.books import Book
 from surelevels.errors import BadPart
 from surelevels.exacts import Exact
-from tests.things import TANK, no_numbers, small_book
+from tests.things import TANK, as_exacts, as_lists, as_tuples, kinds, no_numbers, small_book
 
 HUGE = 10 ** 60 - 1
 
@@ -20,36 +20,6 @@ FACTS = [
 
 def big_book():
     return Book(0, 10, Exact(-1, 2), 100, LEVELS, FACTS)
-
-
-def as_lists(thing):
-    """A thing with lists in the place of tuples at every depth."""
-    if isinstance(thing, (list, tuple)):
-        return [as_lists(part) for part in thing]
-    return thing
-
-
-def as_tuples(thing):
-    """A thing with tuples in the place of lists at every depth."""
-    if isinstance(thing, (list, tuple)):
-        return tuple(as_tuples(part) for part in thing)
-    return thing
-
-
-def as_exacts(thing):
-    """A thing with an Exact in the place of each integer."""
-    if isinstance(thing, (list, tuple)):
-        return type(thing)(as_exacts(part) for part in thing)
-    return Exact(thing) if isinstance(thing, int) else thing
-
-
-def kinds(thing):
-    """A thing with the kinds of all its parts, to compare forms as well as values."""
-    if isinstance(thing, (list, tuple)):
-        return (type(thing), [kinds(part) for part in thing])
-    if isinstance(thing, Exact):
-        return (Exact, thing.over, thing.under)
-    return (type(thing), thing)
 
 
 class Told(unittest.TestCase):

@@ -159,6 +159,37 @@ class Statements(unittest.TestCase):
             if isinstance(node.func, ast.Name) and node.func.id in ("any", "all", "min", "max", "sum", "sorted"):
                 self.assertFalse([each for each in node.args if isinstance(each, ast.GeneratorExp)], where)
 
+    def test_l5_nothing_sorts_numbers(self):
+        """Fractions have an order that is not by one key, so sorted, min and max are not for them, nor is sort."""
+        for where, node in nodes(ast.Call):
+            if isinstance(node.func, ast.Name):
+                self.assertNotIn(node.func.id, ("sorted", "min", "max"), where)
+            if isinstance(node.func, ast.Attribute):
+                self.assertNotEqual(node.func.attr, "sort", where)
+
+    def test_l23_iterated_at_once(self):
+        """Whatever gives no list stands where it is iterated on the spot."""
+        for path in FILES:
+            tree = ast.parse(path.read_text("utf-8"))
+            allowed = set()
+            for node in ast.walk(tree):
+                if isinstance(node, (ast.For, ast.comprehension)):
+                    allowed.add(node.iter)
+                if isinstance(node, ast.Call) and isinstance(node.func, ast.Name) and node.args:
+                    if node.func.id in ("list", "tuple", "dict", "sum", "any", "all", "enumerate", "zip", "reversed"):
+                        allowed.add(node.args[0])
+                if isinstance(node, ast.Call) and isinstance(node.func, ast.Attribute) and node.func.attr == "join":
+                    allowed.add(node.args[0])
+            for node in ast.walk(tree):
+                if isinstance(node, ast.Call):
+                    word = getattr(node.func, "id", getattr(node.func, "attr", ""))
+                    if word in ("zip", "enumerate", "reversed", "range", "items", "keys", "values"):
+                        self.assertIn(node, allowed, f"{path.name}:{node.lineno}")
+
+    def test_l24_l27_sets_and_powers(self):
+        for where, node in nodes((ast.Set, ast.SetComp, ast.GeneratorExp, ast.Yield, ast.YieldFrom, ast.NamedExpr)):
+            self.fail((where, node))
+
     def test_l19_raise(self):
         for where, node in nodes(ast.Raise):
             if node.exc is not None:

@@ -1,0 +1,106 @@
+"""Proofs: what must hold of the levels of a book, and which cases its SILENT facts leave."""
+
+from surelevels.errors import Unfit
+from surelevels.leasts import Least
+from surelevels.nets import Net, mirrored
+
+
+class Proof:
+    """The least heights of all histories that fit a net, and the paper that leads to them.
+
+    Its raises are the parts that raise facts; its last part shows that no
+    history fits, and is None if one does.
+    """
+
+    def __init__(self, net):
+        self.least = Least(net)
+        self.raises = []
+        self.last = self.closing()
+        while self.last is None and self.raises_one():
+            self.last = self.closing()
+
+    def closing(self):
+        """The part that shows that no history fits, or None if none is found."""
+        least = self.least
+        if least.ring is not None:
+            return ("ring", least.ring_chain())
+        for index, level, first, last, low, high in least.net.reads:
+            end = least.end_above(level, first, last, high)
+            if end is not None:
+                return ("pass", index, least.chain(level, end))
+        return self.closing_at_top()
+
+    def closing_at_top(self):
+        """The part that shows that a level would be above top, or None if none would."""
+        net = self.least.net
+        for level in range(len(net.words)):
+            end = self.least.end_above(level, 0, len(net.moments) - 1, net.top)
+            if end is not None:
+                return ("pass", None, self.least.chain(level, end))
+        return None
+
+    def raises_one(self):
+        """Raises a fact whose level is above its low; tells whether there was one."""
+        least = self.least
+        for mark in least.net.silents:
+            index, level, first, last, low, high = mark
+            end = least.end_above(level, first, last, low)
+            if end is not None and mark not in least.raised:
+                self.raises.append(("raise", index, least.chain(level, end)))
+                least.lift_floor(mark)
+                least.settle()
+                return True
+        return False
+
+
+def nets_of(book, moments=(), heights=()):
+    """The nets of a book and of its mirror, in the same unit."""
+    return (Net(book, moments, heights), Net(mirrored(book), moments, [-height for height in heights]))
+
+
+def fitting_proof(net):
+    """The proof of a net that some history fits."""
+    proof = Proof(net)
+    if proof.last is not None:
+        raise Unfit()
+    return proof
+
+
+def cases(net, mirror):
+    """For each way to be above or below the SILENT facts that fits: the least heights, and those of the mirror."""
+    check_fit(net)
+    found = []
+    for choice in choices(len(net.silents)):
+        least = Least(net, chosen(net.silents, choice, True))
+        if is_fitting(least, chosen(net.silents, choice, False)):
+            found.append((least, Least(mirror, chosen(mirror.silents, choice, False))))
+    return found
+
+
+def check_fit(net):
+    """Raises Unfit for a net that no history fits."""
+    if Proof(net).last is not None:
+        raise Unfit()
+
+
+def choices(many):
+    """All lists of so many times True or False."""
+    found = [[]]
+    for number in range(many):
+        found = [[*choice, raised] for choice in found for raised in (False, True)]
+    return found
+
+
+def chosen(marks, choice, raised):
+    """The facts for which a choice says True, or those for which it says False."""
+    return [mark for mark, value in zip(marks, choice) if value == raised]
+
+
+def is_fitting(least, lowered):
+    """Whether least heights are below all that they must not be above, if some SILENT facts are not raised."""
+    net = least.net
+    marks = [(mark, mark[5]) for mark in net.reads] + [(mark, mark[4]) for mark in lowered]
+    if any([least.end_above(mark[1], mark[2], mark[3], height) is not None for mark, height in marks]):
+        return False
+    last = len(net.moments) - 1
+    return all([least.end_above(level, 0, last, net.top) is None for level in range(len(net.words))])
