@@ -68,19 +68,14 @@ def fitting_proof(net):
 
 def cases(net, mirror):
     """For each way to be above or below the SILENT facts that fits: the least heights, and those of the mirror."""
-    check_fit(net)
+    # Else there would be no case, which takes longer to see: this raises Unfit at once.
+    fitting_proof(net)
     found = []
     for choice in choices(len(net.silents)):
         least = Least(net, chosen(net.silents, choice, True))
         if is_fitting(least, chosen(net.silents, choice, False)):
             found.append((least, Least(mirror, chosen(mirror.silents, choice, False))))
     return found
-
-
-def check_fit(net):
-    """Raises Unfit for a net that no history fits."""
-    if Proof(net).last is not None:
-        raise Unfit()
 
 
 def choices(many):

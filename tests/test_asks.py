@@ -86,6 +86,25 @@ class Heights(Asks):
         facts[1] = ("read", "tank", 0, 0, 51, 51)
         self.same(heights(small_book(facts), "tank", 2), [(49, 51), (55, 55)])
 
+    def test_sides_of_silent_facts_that_are_beyond_the_frame(self):
+        for a, b in ((0, 0), (10, 10), (4, 6), (0, 10)):
+            self.same(heights(quick_book([("silent", "tank", a, b, 95, 105)]), "tank", b), [(0, 95)])
+            self.same(heights(quick_book([("silent", "tank", a, b, -5, 5)]), "tank", a), [(5, 100)])
+        for name in ("tank", "b", "c"):
+            book = three_levels([("silent", name, 10, 10, 95, 105), ("silent", name, 0, 0, -5, 5)])
+            self.same(heights(book, name, 10), [(0, 95)])
+            self.same(heights(book, name, 0), [(5, 100)])
+
+    def test_levels_with_the_names_of_facts_and_steps(self):
+        rates = [(10, 1, 1)]
+        book = Book(0, 10, 0, 100, [("above", rates), ("silent", rates), ("read", rates)],
+                    [("above", "silent", "read", 5, 5, 10), ("silent", "above", 5, 5, 40, 50),
+                     ("read", "silent", 5, 5, 60, 70), ("above", "read", "above", 5, 5, -50)])
+        self.same(heights(book, "above", 5), [(20, 40), (50, 100)])
+        self.same(heights(book, "read", 5), [(70, 100)])
+        self.same(heights(book, "silent", 5), [(60, 70)])
+        self.same(differences(book, "silent", "read", 5), [(10, 40)])
+
     def test_silent_facts_of_other_levels(self):
         book = three_levels([("silent", "b", 5, 5, 40, 50), ("above", "tank", "b", 5, 5, 0),
                              ("read", "tank", 5, 5, 30, 90), ("above", "b", "tank", 5, 5, 0)])

@@ -143,6 +143,15 @@ class Told(unittest.TestCase):
                    [[(0, 50), (5, 45), (10, 50)], [(0, 52), (5, 47), (10, 52)], [(0, 55), (5, 50), (10, 55)]],
                    [[(0, 60), (5, 65), (10, 60)], [(0, 97), (10, 97)], [(0, 100), (10, 100)]])
 
+    def test_three_pieces_through_one_point(self):
+        """A level falls, stands on its mark for no time at all, and is taken along by another one."""
+        levels = [("a", [(10, 2, 2)]), ("b", [(10, 3, 1)])]
+        facts = [("read", "b", 0, 10, 45, 55), ("read", "b", 0, 0, 50, 50), ("read", "a", 10, 10, 55, 55),
+                 ("above", "a", "b", 0, 10, 0)]
+        self.check(Book(0, 10, 0, 100, levels, facts),
+                   [[(0, 35), (10, 55)], [(0, 50), (5, 45), (10, 55)]],
+                   [[(0, 50), (Exact(5, 2), 55), (10, 55)], [(0, 50), (Exact(5, 3), 55), (10, 55)]])
+
     def test_silent_raised_by_a_gap(self):
         levels = [("a", [(10, 1, 1)]), ("b", [(10, 1, 1)])]
         facts = [("silent", "b", 4, 6, 50, 60), ("above", "a", "b", 3, 3, 4), ("read", "a", 0, 0, 51, 51)]

@@ -132,6 +132,16 @@ class Papers(unittest.TestCase):
         facts[2] = ("above", "c", "a", 5, 5, 2)
         self.assertRaises(HasHistory, paper, Book(0, 10, 0, 10 ** 60, levels, facts))
 
+    def test_levels_with_the_names_of_facts_and_steps(self):
+        rates = [(10, 1, 1)]
+        self.check(Book(0, 10, 0, 100, [("from", rates), ("run", rates), ("bottom", rates)],
+                        [("above", "from", "run", 5, 5, 1), ("above", "run", "bottom", 5, 5, 1),
+                         ("above", "bottom", "from", 5, 6, Exact(-3, 2))]))
+        self.check(Book(0, 10, 0, 100, [("above", rates), ("silent", rates), ("read", rates)],
+                        [("above", "silent", "read", 5, 5, 10), ("silent", "above", 5, 5, 20, 65),
+                         ("read", "silent", 5, 5, 60, 70), ("above", "read", "above", 6, 6, -40),
+                         ("read", "above", 0, 0, 10, 59)]))
+
     def test_same_again(self):
         book = self.levels([("read", "a", Exact(1, 2), 2, 50, 60), ("above", "a", "b", 4, 6, -5),
                             ("silent", "b", 7, 8, 30, 70), ("read", "b", Exact(17, 2), 10, 0, 60)])
