@@ -54,10 +54,7 @@ def passed(book, name):
 
 def differences(book, one, other, moment):
     """The stretches of all differences, height of other less height of one, that there can be at a moment."""
-    first = level_of(book, one)
-    second = level_of(book, other)
-    if one == other:
-        raise UnknownLevel(other)
+    first, second = pair_of(book, one, other)
     check_moment(book, moment)
     net, mirror = nets_of(book, [moment])
     end = net.moments.index(moment)
@@ -71,6 +68,14 @@ def level_of(book, name):
     if not is_among(name, book.names()):
         raise UnknownLevel(name)
     return book.names().index(name)
+
+
+def pair_of(book, one, other):
+    """The places of two unlike levels with two names."""
+    pair = (level_of(book, one), level_of(book, other))
+    if one == other:
+        raise UnknownLevel(other)
+    return pair
 
 
 def check_moment(book, moment):

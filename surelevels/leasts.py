@@ -3,6 +3,33 @@
 from surelevels.exacts import plain
 
 
+class Trail:
+    """The way of a chain: its first step, the places that it goes by, and by how much it ends above a mark.
+
+    Each place is a row (level, end, path): the path has the ABOVE facts by
+    which it was reached from the place ahead of it, none for a run; it is None
+    for the first place.
+    """
+
+    def __init__(self, first, places, excess):
+        self.first = first
+        self.places = places
+        self.excess = excess
+
+    def chain(self, moments):
+        """The chain, for a net with these moments."""
+        steps = [self.first]
+        for level, end, path in self.places[1:]:
+            if len(path) == 0 and steps[-1][0] == "run":
+                # The run goes on: one step leads to where both would.
+                steps.pop()
+            if len(path) == 0:
+                steps.append(("run", plain(moments[end])))
+            else:
+                steps.extend([("above", index) for index in path])
+        return steps
+
+
 class Least:
     """The least heights of all levels at all ends that keep all chains.
 
@@ -97,19 +124,43 @@ class Least:
         return [(since, since - self.net.falls[level][span]), (until - self.net.rises[level][span], until),
                 (floor, floor)]
 
-    def chain(self, level, end):
-        """The chain by which the height of a level at an end came."""
-        steps = []
-        way = self.ways[level][end]
-        while way is not None:
-            add_steps(steps, self.net, end, way)
-            level, end, path = way
-            way = self.ways[level][end]
-        steps.append(self.source(level, end))
-        return steps[::-1]
+    def trail_above(self, level, first, last, mark):
+        """The trail to the first one of some ends at which a level is above a mark, or None."""
+        end = self.end_above(level, first, last, mark)
+        if end is None:
+            return None
+        places = self.places_to((level, end), None)
+        return Trail(self.source(places[0]), places, self.heights[level][end] - mark)
 
-    def source(self, level, end):
+    def ring_trail(self):
+        """The trail round a ring, if there is one."""
+        begin = self.ring
+        # The place that grew last may only hang on the ring: so far back it is on it.
+        for back in range(len(self.heights) * len(self.net.moments)):
+            begin = self.way_to(begin)[:2]
+        places = self.places_to(begin, begin)
+        first = ("from", self.net.words[begin[0]], plain(self.net.moments[begin[1]]))
+        return Trail(first, places, self.net.gained(places) - self.net.lost(places))
+
+    def places_to(self, place, begin):
+        """The rows of a trail to a place: from another place on, or from a floor for None."""
+        rows = []
+        way = self.way_to(place)
+        while way is not None and (len(rows) == 0 or place != begin):
+            rows.append((*place, way[2]))
+            place = way[:2]
+            way = self.way_to(place)
+        rows.append((*place, None))
+        return rows[::-1]
+
+    def way_to(self, place):
+        """The way by which the height of a place came, or None."""
+        level, end = place
+        return self.ways[level][end]
+
+    def source(self, place):
         """The first step of a chain: where the height of a floor comes from."""
+        level, end, path = place
         moment = plain(self.net.moments[end])
         floor = self.floors[level][2 * end]
         for index, name, first, last, low, high in self.net.reads:
@@ -120,32 +171,7 @@ class Least:
                 return ("raised", index, moment)
         return ("bottom", self.net.words[level], moment)
 
-    def ring_chain(self):
-        """The chain of a ring, if there is one."""
-        place = self.ring
-        # The place that grew last may only hang on the ring: so far back it is on it.
-        for back in range(len(self.heights) * len(self.net.moments)):
-            place = self.ways[place[0]][place[1]][:2]
-        begin = place
-        steps = []
-        while len(steps) == 0 or place != begin:
-            way = self.ways[place[0]][place[1]]
-            add_steps(steps, self.net, place[1], way)
-            place = way[:2]
-        steps.append(("from", self.net.words[begin[0]], plain(self.net.moments[begin[1]])))
-        return steps[::-1]
-
 
 def range_of(things):
     """The list of the places of some things."""
     return list(range(len(things)))
-
-
-def add_steps(steps, net, end, way):
-    """Adds the steps of a way to an end to the steps behind it, the last one first."""
-    path = way[2]
-    if len(path) > 0:
-        steps.extend([("above", index) for index in path[::-1]])
-    elif len(steps) == 0 or steps[-1][0] != "run":
-        # Else the run goes on: it then leads right to where the next one would.
-        steps.append(("run", plain(net.moments[end])))

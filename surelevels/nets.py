@@ -1,6 +1,5 @@
 """Nets: a book at its ends, in whole numbers."""
 
-from surelevels.books import Book
 from surelevels.exacts import Exact, divisor, parts, plain
 from surelevels.orders import in_order
 from surelevels.rates import drop, stages_of
@@ -11,27 +10,26 @@ class Net:
 
     The ends are counted from 0 on, and so are the spans between neighbouring
     ones. The slots are both in their order: slot 2 * k is the end k, slot
-    2 * k + 1 all that is between the ends k and k + 1. Further moments and
-    heights that are asked about can be made ends and whole, too.
+    2 * k + 1 all that is between the ends k and k + 1. Falls and rises tell for
+    each level how much it falls and rises at most in each span; reads and
+    silents are rows (index, level, first end, last end, low, high), aboves
+    are rows (index, one, other, first end, last end, gap).
     """
 
-    def __init__(self, book, moments=(), heights=()):
-        self.words = book.names()
-        self.moments = ends_of(book, moments)
-        self.unit = unit_of(book, self.moments, heights)
-        self.bottom, self.top = [self.scaled(height) for height in book.frame()[2:]]
-        self.falls = self.drops(book, 0, 1)
-        self.rises = self.drops(book, 1, 0)
-        self.reads = self.marks(book, "read")
-        self.silents = self.marks(book, "silent")
-        self.aboves = self.gaps(book)
+    def __init__(self, words, moments, unit, bounds, drops, marks, aboves):
+        self.words = words
+        self.moments = moments
+        self.unit = unit
+        self.bottom, self.top = bounds
+        self.falls, self.rises = drops
+        self.reads, self.silents = marks
+        self.aboves = aboves
         self.floors = self.floors_below()
         self.lifts = [lifts_at(self.aboves, slot) for slot in self.slots(0, len(self.moments) - 1)]
 
     def scaled(self, height):
         """A height in the unit."""
-        over, under = parts(height)
-        return over * (self.unit // under)
+        return whole_in(self.unit, height)
 
     def exact(self, height):
         """A height in the unit as a result."""
@@ -41,23 +39,19 @@ class Net:
         """The slots from one end to another one."""
         return list(range(2 * first, 2 * last + 1))
 
-    def drops(self, book, since, until):
-        """For each level how much it falls at most from one end (0 or 1) of each span to the other one."""
-        pairs = list(zip(self.moments, self.moments[1:]))
-        return [[self.scaled(drop(rates, pair[since], pair[until])) for pair in pairs]
-                for rates in list(stages_of(book).values())]
+    def lost(self, places):
+        """How much height the runs of a trail with these places lose."""
+        steps = list(zip(places, places[1:]))
+        return sum([self.loss(level, since[1], end) for since, (level, end, path) in steps if len(path) == 0])
 
-    def marks(self, book, kind):
-        """The facts of a kind with two marks, as rows (index, level, first end, last end, low, high)."""
-        return [(index, self.words.index(fact[1]), self.moments.index(fact[2]), self.moments.index(fact[3]),
-                 self.scaled(fact[4]), self.scaled(fact[5]))
-                for index, fact in enumerate(book.facts()) if fact[0] == kind]
+    def loss(self, level, since, until):
+        """How much lower a level may be at an end than it is at a neighbouring one."""
+        return self.falls[level][since] if since < until else self.rises[level][until]
 
-    def gaps(self, book):
-        """The ABOVE facts as rows (index, one, other, first end, last end, gap)."""
-        return [(index, self.words.index(fact[1]), self.words.index(fact[2]), self.moments.index(fact[3]),
-                 self.moments.index(fact[4]), self.scaled(fact[5]))
-                for index, fact in enumerate(book.facts()) if fact[0] == "above"]
+    def gained(self, places):
+        """How much height the ABOVE facts of a trail with these places add."""
+        gaps = {row[0]: row[5] for row in self.aboves}
+        return sum([gaps[index] for level, end, path in places[1:] for index in path])
 
     def floors_below(self):
         """For each level and slot the height below which bottom and the READ facts do not let it be."""
@@ -68,6 +62,42 @@ class Net:
                 if floors[level][slot] < low:
                     floors[level][slot] = low
         return floors
+
+
+def net_of(book, moments=(), heights=()):
+    """The net of a book; further moments and heights that are asked about can be made ends and whole, too."""
+    ends = ends_of(book, moments)
+    unit = unit_of(book, ends, heights)
+    names = book.names()
+    bounds = [whole_in(unit, height) for height in book.frame()[2:]]
+    spans = list(zip(ends, ends[1:]))
+    stages = list(stages_of(book).values())
+    falls = [[whole_in(unit, drop(rates, since, until)) for since, until in spans] for rates in stages]
+    rises = [[whole_in(unit, drop(rates, until, since)) for since, until in spans] for rates in stages]
+    marks = [marks_of(book, kind, ends, unit) for kind in ("read", "silent")]
+    return Net(names, ends, unit, bounds, (falls, rises), marks, gaps_of(book, ends, unit))
+
+
+def marks_of(book, kind, ends, unit):
+    """The rows of the facts of a kind with two marks."""
+    names = book.names()
+    return [(index, names.index(fact[1]), ends.index(fact[2]), ends.index(fact[3]),
+             whole_in(unit, fact[4]), whole_in(unit, fact[5]))
+            for index, fact in enumerate(book.facts()) if fact[0] == kind]
+
+
+def gaps_of(book, ends, unit):
+    """The rows of the ABOVE facts."""
+    names = book.names()
+    return [(index, names.index(fact[1]), names.index(fact[2]), ends.index(fact[3]), ends.index(fact[4]),
+             whole_in(unit, fact[5]))
+            for index, fact in enumerate(book.facts()) if fact[0] == "above"]
+
+
+def whole_in(unit, height):
+    """A height as a whole number of units, unit of which are 1."""
+    over, under = parts(height)
+    return over * (unit // under)
 
 
 def ends_of(book, moments):
@@ -124,17 +154,20 @@ def keep_greater(best, pair, gain, path):
         best[pair] = (gain, path)
 
 
-def mirrored(book):
-    """The book of all heights below nought: what is highest in the one is lowest in the other."""
-    start, end, bottom, top = book.frame()
-    levels = [(name, [(until, fall, rise) for until, rise, fall in rates]) for name, rates in book.levels()]
-    return Book(start, end, -top, -bottom, levels, [mirrored_fact(fact) for fact in book.facts()])
+def mirrored(net):
+    """The net of all heights below nought: what is highest in the one is lowest in the other."""
+    marks = [[(*row[:4], -row[5], -row[4]) for row in rows] for rows in (net.reads, net.silents)]
+    aboves = [(index, other, one, first, last, gap) for index, one, other, first, last, gap in net.aboves]
+    return Net(net.words, net.moments, net.unit, (-net.top, -net.bottom), (net.rises, net.falls), marks, aboves)
 
 
-def mirrored_fact(fact):
-    """The fact about heights below nought that a fact is."""
-    if fact[0] == "above":
-        kind, one, other, a, b, gap = fact
-        return (kind, other, one, a, b, gap)
-    kind, name, a, b, low, high = fact
-    return (kind, name, a, b, -high, -low)
+def retuned(net, times, pace, further=()):
+    """A net in a unit that is so many times smaller, with further rows of ABOVE facts in this unit.
+
+    All that levels fall and rise is pace new units for each old one.
+    """
+    bounds = (net.bottom * times, net.top * times)
+    drops = [[[loss * pace for loss in row] for row in rows] for rows in (net.falls, net.rises)]
+    marks = [[(*row[:4], row[4] * times, row[5] * times) for row in rows] for rows in (net.reads, net.silents)]
+    aboves = [(*row[:5], row[5] * times) for row in net.aboves]
+    return Net(net.words, net.moments, net.unit * times, bounds, drops, marks, [*aboves, *further])

@@ -2,14 +2,15 @@
 
 from surelevels.errors import Unfit
 from surelevels.leasts import Least
-from surelevels.nets import Net, mirrored
+from surelevels.nets import mirrored, net_of
 
 
 class Proof:
     """The least heights of all histories that fit a net, and the paper that leads to them.
 
-    Its raises are the parts that raise facts; its last part shows that no
-    history fits, and is None if one does.
+    The parts of the paper have trails in the place of chains. Its raises are
+    the parts that raise facts; its last part shows that no history fits, and is
+    None if one does.
     """
 
     def __init__(self, net):
@@ -23,20 +24,20 @@ class Proof:
         """The part that shows that no history fits, or None if none is found."""
         least = self.least
         if least.ring is not None:
-            return ("ring", least.ring_chain())
+            return ("ring", least.ring_trail())
         for index, level, first, last, low, high in least.net.reads:
-            end = least.end_above(level, first, last, high)
-            if end is not None:
-                return ("pass", index, least.chain(level, end))
+            trail = least.trail_above(level, first, last, high)
+            if trail is not None:
+                return ("pass", index, trail)
         return self.closing_at_top()
 
     def closing_at_top(self):
         """The part that shows that a level would be above top, or None if none would."""
         net = self.least.net
         for level in range(len(net.words)):
-            end = self.least.end_above(level, 0, len(net.moments) - 1, net.top)
-            if end is not None:
-                return ("pass", None, self.least.chain(level, end))
+            trail = self.least.trail_above(level, 0, len(net.moments) - 1, net.top)
+            if trail is not None:
+                return ("pass", None, trail)
         return None
 
     def raises_one(self):
@@ -44,9 +45,9 @@ class Proof:
         least = self.least
         for mark in least.net.silents:
             index, level, first, last, low, high = mark
-            end = least.end_above(level, first, last, low)
-            if end is not None and mark not in least.raised:
-                self.raises.append(("raise", index, least.chain(level, end)))
+            trail = None if mark in least.raised else least.trail_above(level, first, last, low)
+            if trail is not None:
+                self.raises.append(("raise", index, trail))
                 least.lift_floor(mark)
                 least.settle()
                 return True
@@ -54,8 +55,9 @@ class Proof:
 
 
 def nets_of(book, moments=(), heights=()):
-    """The nets of a book and of its mirror, in the same unit."""
-    return (Net(book, moments, heights), Net(mirrored(book), moments, [-height for height in heights]))
+    """The net of a book and that of its mirror."""
+    net = net_of(book, moments, heights)
+    return (net, mirrored(net))
 
 
 def fitting_proof(net):

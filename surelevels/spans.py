@@ -30,6 +30,11 @@ def moment_of(net, span, share):
     return plain(since + (until - since) * Exact(share.over, share.under))
 
 
+def least_history(least):
+    """The least lines of all levels."""
+    return [least_line(least, level) for level in range(len(least.net.words))]
+
+
 def least_line(least, level):
     """The least line of a level."""
     net = least.net
@@ -130,6 +135,14 @@ def some_above(pieces, height):
     """The stretches of shares at which some piece is not below a height."""
     parts = [above(piece, height) for piece in pieces]
     return joined([part for part in parts if part is not None])
+
+
+def stays_above(least, level, first, last, height):
+    """Whether the least line of a level is nowhere below a height, in whole units, from one end to another one."""
+    if any([least.heights[level][end] < height for end in range(first, last + 1)]):
+        return False
+    # Each end of a span is in one of the stretches, so they are one just if nothing between is below.
+    return all([len(some_above(least.pieces(level, span), height)) == 1 for span in range(first, last)])
 
 
 def possible_stretches(pairs, level, low, high):

@@ -6,6 +6,7 @@ much the second one is at least higher than the first one; a ring in it with a s
 
 from fractions import Fraction
 from itertools import product
+from math import lcm
 
 from surelevels.exacts import Exact
 
@@ -33,20 +34,31 @@ def ends(book):
     for _, rates in book.levels():
         found |= {fraction(rate[0]) for rate in rates}
     for fact in book.facts():
-        found |= {fraction(moment) for moment in (fact[3:5] if fact[0] == "above" else fact[2:4])}
+        found |= {fraction(moment) for moment in stretch_of(fact)}
     return sorted(found)
 
 
-class Oracle:
-    """A book with some more moments to ask about: a matrix for each way to take the silent facts that fits."""
+def stretch_of(fact):
+    """The first and the last moment of the stretch of a fact."""
+    return fact[3:5] if fact[0] == "above" else fact[2:4]
 
-    def __init__(self, book, more=()):
+
+class Oracle:
+    """A book with some more moments to ask about: a matrix for each way to take the silent facts that fits.
+
+    Further facts, however many, may be added to it, and all rates multiplied by a factor.
+    """
+
+    def __init__(self, book, more=(), further=(), factor=1):
         self.frame = fractions(book.frame())
-        self.levels = dict(fractions(book.levels()))
-        self.facts = fractions(book.facts())
-        self.moments = sorted(set(ends(book)) | {fraction(moment) for moment in more})
+        self.levels = {name: [(until, rise * factor, fall * factor) for until, rise, fall in rates]
+                       for name, rates in fractions(book.levels())}
+        self.facts = fractions(book.facts() + list(further))
+        asked = {fraction(moment) for moment in [*more, *[moment for fact in further for moment in stretch_of(fact)]]}
+        self.moments = sorted(set(ends(book)) | asked)
         self.places = [None] + [(name, moment) for name in self.levels for moment in self.moments]
         self.at = {place: index for index, place in enumerate(self.places)}
+        self.scale = self.common_under()
         silents = [fact for fact in self.facts if fact[0] == "silent"]
         common = self.common_matrix()
         self.matrices = []
@@ -61,9 +73,17 @@ class Oracle:
             if close(matrix):
                 self.matrices.append(matrix)
 
+    def common_under(self):
+        """The matrices hold whole numbers, which takes less time: so many of them are 1."""
+        marks = [*self.frame[2:], *[mark for fact in self.facts for mark in fact if isinstance(mark, Fraction)]]
+        marks += [rate * (until - since) for rates in self.levels.values() for _, *pair in rates for rate in pair
+                  for since, until in zip(self.moments, self.moments[1:])]
+        return lcm(*[mark.denominator for mark in marks])
+
     def note(self, matrix, one, other, rise):
-        if matrix[one][other] is None or matrix[one][other] < rise:
-            matrix[one][other] = rise
+        whole = rise.numerator * (self.scale // rise.denominator)
+        if matrix[one][other] is None or matrix[one][other] < whole:
+            matrix[one][other] = whole
 
     def covered(self, name, a, b):
         return [self.at[name, moment] for moment in self.moments if a <= moment <= b]
@@ -96,11 +116,15 @@ class Oracle:
     def heights(self, name, moment):
         """The stretches of the possible heights."""
         at = self.at[name, fraction(moment)]
-        return joined((matrix[0][at], -matrix[at][0]) for matrix in self.matrices)
+        return self.told((matrix[0][at], -matrix[at][0]) for matrix in self.matrices)
 
     def differences(self, one, other, moment):
         at, to = self.at[one, fraction(moment)], self.at[other, fraction(moment)]
-        return joined((matrix[at][to], -matrix[to][at]) for matrix in self.matrices)
+        return self.told((matrix[at][to], -matrix[to][at]) for matrix in self.matrices)
+
+    def told(self, stretches):
+        """Stretches of whole numbers as fractions, those that touch as one."""
+        return [(Fraction(low, self.scale), Fraction(high, self.scale)) for low, high in joined(stretches)]
 
     def lowest(self, name, moment):
         return self.heights(name, moment)[0][0]
@@ -119,7 +143,8 @@ class Oracle:
             high = min(known[at] - matrix[place][at] for at in known if matrix[place][at] is not None)
             share = source.choice((Fraction(0), Fraction(1), Fraction(source.randint(0, 6), 6)))
             known[place] = low + (high - low) * share
-        return {name: [(moment, known[self.at[name, moment]]) for moment in self.moments] for name in self.levels}
+        return {name: [(moment, known[self.at[name, moment]] / self.scale) for moment in self.moments]
+                for name in self.levels}
 
     def is_possible(self, name, moment, low, high):
         return any(least <= high and low <= most for least, most in self.heights(name, moment))

@@ -11,26 +11,11 @@ from surelevels.exacts import Exact
 from surelevels.papers import is_fit
 from tests.oracle import Oracle, exact, fraction, fractions
 from tests.randoms import number, random_book
-from tests.things import (as_exacts, as_lists, kinds, no_moments, no_names, no_numbers, scramble, small_book)
+from tests.things import (as_exacts, as_lists, check_error, kinds, no_moments, no_names, no_numbers, quick_book,
+                          scramble, small_book, three_levels, unfit_book)
 
 HALF = Exact(1, 2)
 TINY = Exact(1, 10 ** 30)
-QUICK = [("tank", [(10, 1000, 1000)])]
-
-
-def quick_book(facts):
-    """A book whose level gets anywhere in a tenth of a unit of time."""
-    return Book(0, 10, 0, 100, QUICK, facts)
-
-
-def unfit_book():
-    return Book(0, 10, 0, 100, [("tank", [(10, 2, 1)]), ("b", [(10, 2, 1)]), ("c", [(10, 2, 1)])],
-                [("read", "tank", 5, 5, 0, 1), ("read", "tank", 5, 5, 2, 3)])
-
-
-def three_levels(facts=()):
-    rates = [(10, 1, 1)]
-    return Book(0, 10, 0, 100, [("tank", rates), ("b", rates), ("c", rates)], facts)
 
 
 class Asks(unittest.TestCase):
@@ -276,14 +261,7 @@ class Differences(Asks):
 
 class Wrong(Asks):
     def check(self, error, held, call):
-        """Held is the very object that the error holds, under its only name, or None where it holds nothing."""
-        with self.assertRaises(error) as caught:
-            call()
-        self.assertIs(type(caught.exception), error)
-        values = list(vars(caught.exception).values())
-        self.assertEqual(len(values), 0 if error is Unfit else 1)
-        for value in values:
-            self.assertIs(value, held)
+        check_error(self, error, held, call)
 
     def test_unknown_levels(self):
         for book in (small_book(), unfit_book()):

@@ -239,7 +239,7 @@ class Randoms(unittest.TestCase):
         common = oracle.common_matrix()
         for one, row in enumerate(common):
             for other, rise in enumerate(row):
-                if rise is not None and heights[one] + rise > heights[other]:
+                if rise is not None and heights[one] * oracle.scale + rise > heights[other] * oracle.scale:
                     return False
         for fact in oracle.facts:
             if fact[0] == "silent":

@@ -1,7 +1,7 @@
 """Things that several tests use."""
 
 from surelevels.books import Book
-from surelevels.errors import BadPart
+from surelevels.errors import BadPart, Unfit
 from surelevels.exacts import Exact
 
 TANK = [("tank", [(10, 2, 1)])]
@@ -9,6 +9,40 @@ TANK = [("tank", [(10, 2, 1)])]
 
 def small_book(facts=()):
     return Book(0, 10, 0, 100, TANK, facts)
+
+
+def quick_book(facts):
+    """A book whose level gets anywhere in a tenth of a unit of time."""
+    return Book(0, 10, 0, 100, [("tank", [(10, 1000, 1000)])], facts)
+
+
+def three_levels(facts=()):
+    rates = [(10, 1, 1)]
+    return Book(0, 10, 0, 100, [("tank", rates), ("b", rates), ("c", rates)], facts)
+
+
+def unfit_book():
+    """A book of three levels that no history fits."""
+    return Book(0, 10, 0, 100, [("tank", [(10, 2, 1)]), ("b", [(10, 2, 1)]), ("c", [(10, 2, 1)])],
+                [("read", "tank", 5, 5, 0, 1), ("read", "tank", 5, 5, 2, 3)])
+
+
+def quickened(book, factor):
+    """A book with all rises and falls multiplied by a factor."""
+    levels = [(name, [(until, rise * Exact(1) * factor, fall * Exact(1) * factor) for until, rise, fall in rates])
+              for name, rates in book.levels()]
+    return Book(*book.frame(), levels, book.facts())
+
+
+def check_error(test, error, held, call):
+    """That a call raises an error; held is the very object that it holds under its only name, None for no name."""
+    with test.assertRaises(error) as caught:
+        call()
+    test.assertIs(type(caught.exception), error)
+    values = list(vars(caught.exception).values())
+    test.assertEqual(len(values), 0 if error is Unfit else 1)
+    for value in values:
+        test.assertIs(value, held)
 
 
 def no_numbers():
