@@ -1,4 +1,4 @@
-"""Promises 32 to 35: the examples, number by number, as far as they speak of lines, heights and papers."""
+"""Promises 32 to 35: the examples, number by number."""
 
 import unittest
 
@@ -6,7 +6,10 @@ from surelevels.asks import differences, heights, moments, passed, within
 from surelevels.books import Book
 from surelevels.errors import HasHistory, Unfit
 from surelevels.exacts import Exact
+from surelevels.follow import follows, needless
+from surelevels.gaps import greatest_gap, least_factor, surely_equal
 from surelevels.lines import Line, fits
+from surelevels.live import Gauges
 from surelevels.papers import highest, is_fit, is_paper, lowest, paper
 from tests.oracle import Chains
 from tests.things import kinds
@@ -43,11 +46,27 @@ class Examples(unittest.TestCase):
         self.same(within(book, "tank", 45, 60), ([(0, 5)], [(0, 10)]))
         self.assertRaises(HasHistory, paper, book)
 
+    def test_32_facts(self):
+        book = self.book()
+        self.same(least_factor(book), 0)
+        self.same(needless(book), [])
+        for low, high, wanted in ((45, 60, True), (46, 60, False), (45, 59, False)):
+            self.assertIs(follows(book, ("read", "tank", 5, 5, low, high)), wanted)
+        self.assertIs(follows(book, ("silent", "tank", 0, 10, Exact(190, 3), 70)), True)
+        self.assertIs(follows(book, ("silent", "tank", 0, 10, 63, 70)), False)
+
     def test_33(self):
         book = self.book(ALARM)
         self.same(heights(book, "tank", 5), [(45, 51)])
         self.same(heights(book, "tank", 2), [(48, 51)])
         self.same(heights(self.book(), "tank", 2), [(48, 54)])
+        self.assertIs(follows(book, ("read", "tank", 2, 8, 0, 51)), True)
+        self.assertIs(follows(self.book(), ALARM), False)
+        # Up to 51 at moment 8 the tank gets to 55 at moment 10, so it is from 40 to 60 then anyway.
+        self.same(needless(book), [1])
+        gauges = Gauges(self.book())
+        self.assertIs(gauges.add(ALARM), True)
+        self.assertIs(gauges.add(("read", "tank", 5, 5, 52, 60)), False)
         # Without what is out of reach at moment 2: the alarm from moment 3 on leaves both sides of it.
         self.same(heights(self.book(("silent", "tank", 3, 8, 51, 55)), "tank", 5), [(45, 51), (55, 60)])
 
@@ -63,6 +82,10 @@ class Examples(unittest.TestCase):
         self.assertRaises(Unfit, differences, book, "a", "b", 2)
         equal = book.without(1).further([("above", "b", "a", 2, 2, -5)])
         self.same(differences(equal, "a", "b", 2), [(5, 5)])
+        self.same([greatest_gap(equal, *names, 2, 2)[0] for names in (("a", "b"), ("b", "a"))], [5, -5])
+        self.assertRaises(Unfit, greatest_gap, book, "a", "b", 2, 2)
+        self.assertRaises(Unfit, surely_equal, book, "a", "b", 2, 2)
+        self.same(least_factor(book), None)
         self.assertIs(is_paper(equal, [("ring", [("from", "a", 2), ("above", 0), ("above", 1)])]), False)
 
     def test_35(self):
@@ -74,6 +97,8 @@ class Examples(unittest.TestCase):
         for call in (lowest, highest):
             self.assertRaises(Unfit, call, book)
         self.assertRaises(Unfit, heights, book, "tank", 5)
+        self.same(least_factor(book), Exact(5, 3))
+        self.same(needless(book), [1])
         # Rises of 10/3 lead from 50 to 60 in three units, and no lesser ones do.
         for factor, wanted in ((Exact(5, 3), True), (Exact(5, 3) - Exact(1, 10 ** 30), False), (2, True)):
             quick = Book(0, 10, 0, 100, [("tank", [(10, 2 * factor, 1 * factor)])], book.facts())

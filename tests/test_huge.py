@@ -1,114 +1,42 @@
-"""Promise 5: numbers of 60 digits, through lines, papers and asks."""
+"""Promise 5: numbers of 60 digits, through all of the package but its books and numbers alone."""
 
 import random
 import unittest
 
-from surelevels.asks import differences, heights, moments, passed, within
+from surelevels.asks import differences, heights, moments, within
 from surelevels.books import Book
-from surelevels.errors import BadHeight, BadMoment, BadPoint
+from surelevels.errors import BadFact, BadHeight, BadMoment, BadPoint
 from surelevels.exacts import Exact
+from surelevels.follow import follows, needless
+from surelevels.gaps import greatest_gap, least_factor, surely_equal
 from surelevels.lines import Line, fits
+from surelevels.live import Gauges
 from surelevels.papers import highest, is_fit, is_paper, lowest, paper
+from tests.changes import Change, Changed
 from tests.oracle import Chains, Oracle, fraction, fractions
-from tests.randoms import number, random_book
-from tests.things import kinds
+from tests.randoms import random_book
+from tests.things import kinds, quickened
 
 HUGE = 10 ** 60 - 1
 TINY = Exact(1, HUGE)
 
 
-def mapped(number, factor, offset=0):
-    """A number times a factor, and an offset; as a result."""
-    found = Exact(1) * number * factor + offset
-    return found.over if found.under == 1 else found
-
-
-class Mapped(unittest.TestCase):
+class Mapped(Changed):
     """Books in huge and tiny units of time and of height: all answers must be those of the small book in them."""
 
-    def setUp(self):
-        self.scales = [
-            (10 ** 57 + 9, 10 ** 59 // 7, 10 ** 56 + 3, -(10 ** 58) - 1),
-            (Exact(10 ** 30 + 57, 10 ** 31 + 33), 10 ** 58 + 11, Exact(10 ** 29 + 1, 10 ** 30 + 7),
-             Exact(-1, 10 ** 29 + 3)),
-            (Exact(1, 10 ** 59 + 7), -5, Exact(10 ** 59 + 19, 10 ** 58 + 21), 10 ** 59),
-        ]
-
-    def time(self, moment):
-        return mapped(moment, self.scale[0], self.scale[1])
-
-    def height(self, height):
-        return mapped(height, self.scale[2], self.scale[3])
-
-    def rate(self, rate):
-        return mapped(rate, Exact(1) * self.scale[2] * Exact(1).by(self.scale[0]))
-
-    def fact(self, fact):
-        if fact[0] == "above":
-            return (*fact[:3], self.time(fact[3]), self.time(fact[4]), mapped(fact[5], self.scale[2]))
-        return (*fact[:2], self.time(fact[2]), self.time(fact[3]), self.height(fact[4]), self.height(fact[5]))
-
-    def book(self, book):
-        start, end, bottom, top = book.frame()
-        levels = [(name, [(self.time(until), self.rate(rise), self.rate(fall)) for until, rise, fall in rates])
-                  for name, rates in book.levels()]
-        return Book(self.time(start), self.time(end), self.height(bottom), self.height(top), levels,
-                    [self.fact(fact) for fact in book.facts()])
-
-    def points(self, lines):
-        return [[(self.time(moment), self.height(height)) for moment, height in line.points()] for line in lines]
-
-    def step(self, step):
-        return step if step[0] == "above" else (*step[:-1], self.time(step[-1]))
-
-    def paper(self, parts):
-        return [(*part[:-1], [self.step(step) for step in part[-1]]) for part in parts]
-
-    def stretches(self, rows, change):
-        return [(change(low), change(high)) for low, high in rows]
-
-    def same(self, result, wanted):
-        self.assertEqual(kinds(result), kinds(wanted))
-
     def test_mapped(self):
+        changes = [
+            Change((10 ** 57 + 9, 10 ** 59 // 7), (10 ** 56 + 3, -(10 ** 58) - 1)),
+            Change((Exact(10 ** 30 + 57, 10 ** 31 + 33), 10 ** 58 + 11),
+                   (Exact(10 ** 29 + 1, 10 ** 30 + 7), Exact(-1, 10 ** 29 + 3))),
+            Change((Exact(1, 10 ** 59 + 7), -5), (Exact(10 ** 59 + 19, 10 ** 58 + 21), 10 ** 59)),
+        ]
         source = random.Random(5)
         seen = {True: 0, False: 0}
         for count in range(90):
             small = random_book(source, silents=3, facts=8)
-            self.scale = self.scales[count - count // 3 * 3]
-            large = self.book(small)
-            seen[is_fit(small)] += 1
-            self.assertIs(is_fit(large), is_fit(small))
-            if is_fit(small):
-                self.check_answers(small, large, source)
-            else:
-                self.assertIs(is_paper(large, self.paper(paper(small))), True)
-                self.assertIs(is_paper(large, paper(large)), True)
-                Chains(large).shows(paper(large))
+            seen[self.check(small, changes[count - count // 3 * 3], source)] += 1
         self.assertGreater(min(seen.values()), 20)
-
-    def check_answers(self, small, large, source):
-        self.same([line.points() for line in lowest(large)], self.points(lowest(small)))
-        self.same([line.points() for line in highest(large)], self.points(highest(small)))
-        self.assertIs(fits(large, lowest(large)), True)
-        self.assertIs(fits(large, highest(large)), True)
-        moment = number(source, 0, small.frame()[1])
-        low = number(source, 0, 8)
-        high = low + number(source, 0, 4)
-        for name in small.names():
-            self.same(heights(large, name, self.time(moment)),
-                      self.stretches(heights(small, name, moment), self.height))
-            self.same(moments(large, name, self.height(low)), self.stretches(moments(small, name, low), self.time))
-            sure, possible = within(small, name, low, high)
-            self.same(within(large, name, self.height(low), self.height(high)),
-                      (self.stretches(sure, self.time), self.stretches(possible, self.time)))
-            wanted = passed(small, name)
-            self.same(passed(large, name), wanted and (self.height(wanted[0]), self.height(wanted[1])))
-            for other in small.names():
-                if other != name:
-                    self.same(differences(large, name, other, self.time(moment)),
-                              self.stretches(differences(small, name, other, moment),
-                                             lambda gap: mapped(gap, self.scale[2])))
 
 
 class Unders(unittest.TestCase):
@@ -170,6 +98,76 @@ class Unders(unittest.TestCase):
                                          oracle.differences(name, other, moment))
         self.assertGreater(min(seen.values()), 4)
 
+    def test_factors(self):
+        source = random.Random(7)
+        tiny = Exact(1, HUGE ** 40)
+        seen = {"none": 0, "nought": 0, "more": 0}
+        for count in range(40):
+            book = self.book(source, 3, 6)
+            book = quickened(book, Exact(1, source.randint(10 ** 59, HUGE)).by(Exact(1, source.randint(10 ** 58, HUGE))))
+            factor = least_factor(book)
+            seen["none" if factor is None else "nought" if factor == 0 else "more"] += 1
+            if factor is None:
+                self.assertIs(Oracle(book, factor=HUGE).fits(), False)
+            else:
+                self.assertIs(is_fit(quickened(book, factor)), True)
+                self.assertIs(Oracle(book, factor=fraction(factor)).fits(), True)
+                if factor != 0:
+                    self.assertIs(Oracle(book, factor=fraction(factor - tiny)).fits(), False)
+        self.assertGreater(min(seen.values()), 4)
+
+    def test_gaps(self):
+        source = random.Random(8)
+        seen = 0
+        for count in range(40):
+            book = self.book(source, 2, 5)
+            if is_fit(book) and len(book.names()) > 1:
+                seen += 1
+                one, other = source.sample(book.names(), 2)
+                start, end = book.frame()[:2]
+                a = source.choice([start, *[fact[-3] for fact in book]])
+                b = a + (end - a) * Exact(source.randint(0, 10 ** 60), 10 ** 60)
+                gap, history = greatest_gap(book, one, other, a, b)
+                self.assertEqual(lowest(book.further([("above", one, other, a, b, gap)])), history)
+                for more, wanted in ((0, True), (Exact(1, HUGE ** 9), False)):
+                    fact = ("above", one, other, a, b, gap + more)
+                    self.assertIs(Oracle(book, further=[fact]).fits(), wanted)
+                back = greatest_gap(book, other, one, a, b)[0]
+                self.assertIs(surely_equal(book, one, other, a, b), gap <= 0 and back <= 0)
+        self.assertGreater(seen, 10)
+
+    def test_follows(self):
+        source = random.Random(9)
+        tiny = Exact(1, HUGE ** 9)
+        seen = 0
+        for count in range(30):
+            book = self.book(source, 2, 5)
+            name = source.choice(book.names())
+            at = book.names().index(name)
+            if is_fit(book):
+                seen += 1
+                start, end = book.frame()[:2]
+                low, high = [lines[at].points() for lines in (lowest(book), highest(book))]
+                least, most = low[0][1], high[0][1]
+                for height in [height for moment, height in low]:
+                    least = height if height < least else least
+                for height in [height for moment, height in high]:
+                    most = height if most < height else most
+                for kind, marks, tighter in (("read", (least, most), (least + tiny, most)),
+                                             ("read", (least, most), (least, most - tiny)),
+                                             ("silent", (-HUGE, least), (-HUGE, least + tiny)),
+                                             ("silent", (most, HUGE), (most - tiny, HUGE))):
+                    if marks[0] < marks[1]:
+                        self.assertIs(follows(book, (kind, name, start, end, *marks)), True)
+                        self.assertIs(follows(book, (kind, name, start, end, *tighter)), False)
+                if len(book) < 8:
+                    known = book.further([("read", name, start, end, least, most)])
+                    self.assertIn(len(book), needless(known))
+                    gauges = Gauges(book)
+                    self.assertIs(gauges.add(known.facts()[-1]), True)
+                    self.assertEqual(gauges.book(), known)
+        self.assertGreater(seen, 10)
+
 
 class Lines(unittest.TestCase):
     def test_lines(self):
@@ -195,9 +193,14 @@ class Lines(unittest.TestCase):
                 self.assertEqual(line(moment), height)
 
     def test_errors(self):
-        book = Book(0, HUGE, 0, HUGE, [("a", [(HUGE, HUGE, TINY)])], [("read", "a", HUGE, HUGE, 1, 1)])
+        book = Book(0, HUGE, 0, HUGE, [("a", [(HUGE, HUGE, TINY)]), ("b", [(HUGE, 0, 0)])],
+                    [("read", "a", HUGE, HUGE, 1, 1)])
         self.assertRaises(BadMoment, heights, book, "a", HUGE + TINY)
         self.assertRaises(BadHeight, within, book, "a", HUGE, HUGE - TINY)
+        self.assertRaises(BadMoment, greatest_gap, book, "a", "b", HUGE - TINY, HUGE + TINY)
+        self.assertRaises(BadMoment, surely_equal, book, "b", "a", TINY, Exact(1, HUGE + 1))
+        self.assertRaises(BadFact, follows, book, ("silent", "a", HUGE, HUGE, 1 + TINY, 1 + Exact(1, HUGE + 1)))
+        self.assertRaises(BadFact, Gauges(book).add, ("read", "a", TINY, Exact(1, HUGE + 1), 1, 1))
         self.assertEqual(heights(book, "a", 0), [(0, 2)])
         self.assertEqual(heights(book, "a", HUGE), [(1, 1)])
 

@@ -15,6 +15,7 @@ CLASSES = {
                        "without": "index", "text": "", "of_text": "text"}},
     "lines": {"Line": {"__init__": "points", "points": "", "__call__": "moment", "__eq__": None, "is_below": "other",
                        "lower": "other", "upper": "other"}},
+    "live": {"Gauges": {"__init__": "book", "add": "fact", "undo": "", "book": ""}},
 }
 FUNCTIONS = {
     "exacts": {"plain": "number"},
@@ -22,6 +23,8 @@ FUNCTIONS = {
     "papers": {"lowest": "book", "highest": "book", "is_fit": "book", "paper": "book", "is_paper": "book thing"},
     "asks": {"heights": "book name moment", "moments": "book name height", "within": "book name low high",
              "passed": "book name", "differences": "book one other moment"},
+    "gaps": {"greatest_gap": "book one other a b", "surely_equal": "book one other a b", "least_factor": "book"},
+    "follow": {"follows": "book fact", "needless": "book"},
 }
 
 
