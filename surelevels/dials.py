@@ -1,7 +1,8 @@
-"""Dials: nets that depend on a number, and the least number from which on some history fits them.
+"""Dials: nets that depend on a number, and the least number for which some history fits them.
 
-No chain of a dial's net gets higher as the number grows, so what is too high
-for a number is not so for greater ones only from some number on.
+No chain of such a net gets higher as the number grows. So a paper that shows
+for one number that no history fits shows it for all greater ones, too, up to
+the one at which the first of its chains has sunk to its mark.
 """
 
 from surelevels.exacts import Exact
@@ -25,7 +26,7 @@ class PaceDial:
 
 
 class GapDial:
-    """A net with one more ABOVE fact, whose gap is a number in the unit of the net below nought."""
+    """A net with one more ABOVE fact, whose gap is a number of units of the net below nought."""
 
     def __init__(self, net, index, levels, ends):
         self.net = net
@@ -42,7 +43,7 @@ class GapDial:
 
 
 def least_number(dial, number):
-    """The pair of the least number, from one on, for which a history fits, and the proof then; or None."""
+    """The least number, from one on, for which a history fits, and the proof then, as a pair; or None."""
     proof = Proof(dial.tuned(number))
     while proof.last is not None:
         number = number_behind(dial, number, proof)
@@ -53,16 +54,13 @@ def least_number(dial, number):
 
 
 def number_behind(dial, number, proof):
-    """The least number for which the paper of a proof, that for another one, shows nothing any more, or None.
-
-    It shows nothing any more as soon as one of its trails does not end above its mark.
-    """
+    """The number up to which the paper of a proof for a lesser one holds, or None if it holds for all."""
     best = None
     for part in [*proof.raises, proof.last]:
         trail = part[-1]
         slope = dial.slope(trail)
         if slope > 0:
-            # The excess is counted in the unit of the tuned net; at 0 it is whole in that of the dial's net.
+            # In the unit of the dial's net, and for the number 0: then it is whole.
             excess = (trail.excess + number.over * slope) // number.under
             if best is None or excess * best[1] < best[0] * slope:
                 best = (excess, slope)

@@ -159,6 +159,14 @@ class Statements(unittest.TestCase):
             if isinstance(node.func, ast.Name) and node.func.id in ("any", "all", "min", "max", "sum", "sorted"):
                 self.assertFalse([each for each in node.args if isinstance(each, ast.GeneratorExp)], where)
 
+    def test_l7_stars_in_calls(self):
+        for where, node in nodes(ast.Call):
+            for each in node.args:
+                if isinstance(each, ast.Starred):
+                    self.assertIsInstance(each.value, ast.Name, where)
+            if any(isinstance(each, ast.Starred) for each in node.args):
+                self.assertTrue(all(isinstance(each, (ast.Starred, ast.Name)) for each in node.args), where)
+
     def test_l5_nothing_sorts_numbers(self):
         """Fractions have an order that is not by one key, so sorted, min and max are not for them, nor is sort."""
         for where, node in nodes(ast.Call):
